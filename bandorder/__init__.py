@@ -1,0 +1,1 @@
+"""What stands above what, in bands."""
