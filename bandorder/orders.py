@@ -46,7 +46,7 @@ def refuse_no_things(order, some):
 
 def with_all_below(order, some):
     """The rising list of some things and of all that stand below them."""
-    return sorted({low for thing in some for low in [thing, *order[thing]]})
+    return sorted({low for thing in some for low in [thing] + order[thing]})
 
 
 def put_on(order, some):

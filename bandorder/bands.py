@@ -1,0 +1,18 @@
+"""The bands and the steps of an order."""
+
+from bandorder.flows import many_held, stages
+
+
+def bands(order):
+    """How many more things 1, 2 and so on chains hold at most than one chain fewer, up to all things."""
+    held = [many_held(chains) for chains, marks in stages(order)]
+    return [held[many] - held[many - 1] for many in range(1, len(held))]
+
+
+def steps(order):
+    """How many more things 1, 2 and so on crowds hold at most than one crowd fewer, up to all things.
+
+    The step l is how many bands are l or more, so no crowds need to be looked for.
+    """
+    rows = bands(order)
+    return [len([band for band in rows if band >= step]) for step in range(1, max(rows, default=0) + 1)]
