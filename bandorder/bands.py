@@ -1,6 +1,7 @@
 """The bands and the steps of an order."""
 
 from bandorder.flows import many_held, stages
+from bandorder.shapes import by_columns
 
 
 def bands(order):
@@ -14,5 +15,4 @@ def steps(order):
 
     The step l is how many bands are l or more, so no crowds need to be looked for.
     """
-    rows = bands(order)
-    return [len([band for band in rows if band >= step]) for step in range(1, max(rows, default=0) + 1)]
+    return by_columns(bands(order))

@@ -60,6 +60,19 @@ def orders_of_fourteen():
     return told + [grown_order(14, seed, 1 + seed % 4) for seed in range(12)]
 
 
+def shapes_of(many, most=None):
+    """All shapes of so many boxes, none of whose numbers is above most."""
+    if many == 0:
+        return [[]]
+    top = many if most is None else min(many, most)
+    return [[first] + rest for first in range(top, 0, -1) for rest in shapes_of(many - first, first)]
+
+
+def small_shapes(most):
+    """All shapes of at most so many boxes."""
+    return [shape for many in range(most + 1) for shape in shapes_of(many)]
+
+
 def lists_in(thing):
     """All lists within something made of lists and tuples, itself counted."""
     told = [thing] if isinstance(thing, list) else []
