@@ -60,6 +60,36 @@ def orders_of_fourteen():
     return told + [grown_order(14, seed, 1 + seed % 4) for seed in range(12)]
 
 
+def all_rows_of(many):
+    """All rows of the numbers from 0 on, so many."""
+    return [list(row) for row in itertools.permutations(range(many))]
+
+
+def mixed_row(many, seed, most):
+    """A row of so many unlike numbers, none farther from nought than most; the same one for the same seed."""
+    chance = random.Random(seed)
+    row = []
+    while len(row) < many:
+        number = chance.randint(-most, most)
+        if number not in row:
+            row.append(number)
+    return row
+
+
+def longer_rows():
+    """Rows of six to fourteen numbers: rising, falling and mixed, with numbers below nought and of sixty figures."""
+    told = [list(range(14)), list(range(14))[::-1], list(range(-7, 7)), [10 ** 60 - 1 - at for at in range(14)]]
+    told += [[-(10 ** 60 - 1) + at * at for at in range(14)], [1, 0, 3, 2, 5, 4, 7, 6, 9, 8, 11, 10, 13, 12]]
+    told += [mixed_row(many, seed, 20) for many in range(6, 15) for seed in range(6)]
+    return told + [mixed_row(many, seed, 10 ** 60 - 1) for many in range(6, 15) for seed in range(6)]
+
+
+def rows_to_try():
+    """All small rows, and longer ones."""
+    told = [row for many in range(6) for row in all_rows_of(many)]
+    return told + [[-5], [10 ** 60 - 1], [-(10 ** 60 - 1), 10 ** 60 - 1], [3, -3], [5, -1, 2]] + longer_rows()
+
+
 def shapes_of(many, most=None):
     """All shapes of so many boxes, none of whose numbers is above most."""
     if many == 0:
